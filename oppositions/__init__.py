@@ -1,0 +1,1 @@
+"""Oppositions and appeals: what brings a claim down, and which claims are kept."""

@@ -1,0 +1,100 @@
+"""What the tests share: calls by name, and a line's answers call by call."""
+
+from oppositions.board import answers
+
+LOWEST = -9223372036854775808
+HIGHEST = 9223372036854775807
+
+
+def case(n, bar, limit):
+    return [0, n, bar, limit]
+
+
+def attack(o, c, *facts):
+    return [1, o, c, len(facts), *facts]
+
+
+def proof(p, *weights):
+    return [2, p, len(weights), *weights]
+
+
+def request(m):
+    return [3, m]
+
+
+def tick(n):
+    return [4, n]
+
+
+def decide():
+    return [5]
+
+
+def appeal(p, m):
+    return [6, p, m]
+
+
+def withdraw(o):
+    return [7, o]
+
+
+def close():
+    return [8]
+
+
+def alive():
+    return [9]
+
+
+def ask(*calls):
+    """The answer of each call of one line, as a list each."""
+    flat = [number for call in calls for number in call]
+    told = answers(flat)
+    split = []
+    at = 0
+    while at < len(told):
+        split.append(told[at + 1:at + 1 + told[at]])
+        at += 1 + told[at]
+    assert len(split) == len(calls), (calls, told)
+    return split
+
+
+def last(*calls):
+    """The answer of the line's last call."""
+    return ask(*calls)[-1]
+
+
+def days(n):
+    """Ticks that make n days together: one tick takes at most 365."""
+    return [tick(365)] * (n // 365) + ([tick(n % 365)] if n % 365 else [])
+
+
+# A case with three claims, bar 2 and limit 5 in each phase; claim 1 is down, {0, 2} is kept by request 1.
+PHASE_1 = [case(3, 2, 5), attack(0, 1, 4), proof(0, 4, 2), request(5)]
+PHASE_2 = PHASE_1 + [tick(6), decide()]
+PHASE_3 = PHASE_2 + [appeal(1, 4), tick(61), close()]
+PHASES = ([], PHASE_1, PHASE_2, PHASE_3)
+
+# Calls that go on from any phase and whose answers show what the case holds: the claims that stand, the
+# numbers of pieces, requests and appeals, the day, what is kept, the outcome.
+PROBES = [
+    alive(), attack(2, 0, 0, 7), proof(3, 0, 1, 7, 1), alive(), request(4), withdraw(0), tick(1), decide(),
+    alive(), appeal(0, 1), appeal(1, 4), appeal(2, 2), appeal(3, 2), proof(0, 0, 1, 7, 1), alive(), withdraw(1),
+    appeal(0, 4), tick(30), close(), appeal(0, 1), tick(30), appeal(0, 1), tick(1), close(), alive(),
+    tick(9), decide(), appeal(0, 1), tick(40), close(), tick(30), close(), alive(), tick(1),
+]
+
+
+def refused(test, number, before, call):
+    """Asserts that the call is refused so, and that the rest of the line answers as without it."""
+    with test.subTest(before=before, call=call):
+        plain = ask(*before, *PROBES)
+        tried = ask(*before, call, *PROBES)
+        test.assertEqual([number], tried[len(before)])
+        test.assertEqual(plain, tried[:len(before)] + tried[len(before) + 1:])
+
+
+def taken(test, answer, before, call):
+    """Asserts that the call answers so."""
+    with test.subTest(before=before, call=call):
+        test.assertEqual(answer, last(*before, call))
