@@ -1,6 +1,5 @@
 """The calls that change the case: 0 to 8. Their numbers and rows are as told when they come here."""
 
-from oppositions.counting import Piece
 from oppositions.dispute import DECIDED, NO_CASE, OPPOSED
 from oppositions.refusals import FULL, NOT_NOW, NOT_THERE
 
@@ -15,12 +14,12 @@ def begin_case(dispute, call):
     return [0]
 
 
-def bring_piece(dispute, piece):
+def bring_piece(dispute, bringer, claim, facts, weights):
     if not dispute.is_running():
         return [NOT_NOW]
     if len(dispute.pieces) == MOST_PIECES:
         return [FULL]
-    dispute.bring(piece)
+    dispute.bring(bringer, claim, facts, weights)
     return [len(dispute.pieces) - 1]
 
 
@@ -28,13 +27,11 @@ def attack(dispute, call):
     claim = call.arguments[1]
     if dispute.phase != NO_CASE and claim >= dispute.claims:
         return [NOT_THERE]
-    return bring_piece(dispute, Piece(call.arguments[0], dispute.is_behind_limit(), claim, call.row, []))
+    return bring_piece(dispute, call.arguments[0], claim, call.row, [])
 
 
 def prove(dispute, call):
-    facts = call.row[0::2]
-    weights = call.row[1::2]
-    return bring_piece(dispute, Piece(call.arguments[0], dispute.is_behind_limit(), None, facts, weights))
+    return bring_piece(dispute, call.arguments[0], None, call.row[0::2], call.row[1::2])
 
 
 def request(dispute, call):

@@ -5,7 +5,8 @@ FACTS = 8
 
 class Piece:
     # An attack has a claim and no weights; proof has a weight for each fact, and None as its claim.
-    def __init__(self, bringer, late, claim, facts, weights):
+    def __init__(self, number, bringer, late, claim, facts, weights):
+        self.number = number
         self.bringer = bringer
         self.late = late
         self.claim = claim
@@ -17,11 +18,11 @@ def is_proof(piece):
     return piece.claim is None
 
 
+# An attack adds nothing, having no weights.
 def added_up(support, piece):
     after = list(support)
-    if is_proof(piece):
-        for fact, weight in zip(piece.facts, piece.weights):
-            after[fact] += weight
+    for fact, weight in zip(piece.facts, piece.weights):
+        after[fact] += weight
     return after
 
 
@@ -41,11 +42,11 @@ class Counted:
             return False
         return all([self.is_proven(fact) for fact in piece.facts])
 
+    def proven_attacks(self):
+        return [piece for piece in self.pieces if self.is_brought_down_by(piece)]
+
     def stands(self):
-        for piece in self.pieces:
-            if self.is_brought_down_by(piece):
-                return False
-        return True
+        return len(self.proven_attacks()) == 0
 
     def joined_by(self, piece):
         return Counted(self.claim, self.bar, self.pieces + [piece], added_up(self.support, piece))
@@ -57,6 +58,14 @@ class Counted:
         if piece.late and joined.stands() == self.stands():
             return self
         return joined
+
+    # The late ones of those that stay are not weighed again: what counted stays as it was.
+    def less(self, number):
+        fewer = nothing_counted(self.claim, self.bar)
+        for piece in self.pieces:
+            if piece.number != number:
+                fewer = fewer.joined_by(piece)
+        return fewer
 
 
 def nothing_counted(claim, bar):

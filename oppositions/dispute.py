@@ -1,6 +1,6 @@
 """The case as it is now: what was brought, asked and decided."""
 
-from oppositions.counting import nothing_counted
+from oppositions.counting import Piece, nothing_counted
 
 NO_CASE = 0
 OPPOSED = 1
@@ -9,6 +9,16 @@ OVER = 3
 
 OWNER = 3
 DAYS_TO_APPEAL = 60
+
+
+def claims_that_stand(every):
+    return sum([1 << counted.claim for counted in every if counted.stands()])
+
+
+def weighed_on(counted, pieces):
+    for piece in pieces:
+        counted = counted.weighed_with(piece)
+    return counted
 
 
 class Dispute:
@@ -23,6 +33,8 @@ class Dispute:
         self.limit = 0
         self.pieces = []
         self.counted = []
+        self.settled = []
+        self.settled_pieces = 0
         self.requests = []
         self.appeals = []
         self.kept = 0
@@ -35,7 +47,8 @@ class Dispute:
         self.phase = OPPOSED
         self.claims = claims
         self.limit = limit
-        self.counted = [nothing_counted(claim, bar) for claim in range(claims)]
+        self.settled = [nothing_counted(claim, bar) for claim in range(claims)]
+        self.counted = list(self.settled)
         self.requests = [self.all_claims()]
 
     def all_claims(self):
@@ -54,25 +67,33 @@ class Dispute:
     def is_behind_appeals(self):
         return self.day > self.decision_day + DAYS_TO_APPEAL
 
-    def bring(self, piece):
+    def bring(self, bringer, claim, facts, weights):
+        piece = Piece(len(self.pieces), bringer, self.is_behind_limit(), claim, facts, weights)
         self.pieces.append(piece)
         self.counted = [counted.weighed_with(piece) for counted in self.counted]
 
     def standing(self):
-        return sum([1 << counted.claim for counted in self.counted if counted.stands()])
+        return claims_that_stand(self.counted)
 
-    # The number of the first request all of whose claims stand now, or how many requests there are.
-    def granted_request(self):
+    # From what is settled on, which is nothing until the first decision, the pieces are weighed anew.
+    def standing_without(self, number):
+        since = [piece for piece in self.pieces[self.settled_pieces:] if piece.number != number]
+        return claims_that_stand([weighed_on(settled.less(number), since) for settled in self.settled])
+
+    # The claims of the first request that can be granted, and its number.
+    def granted(self):
         standing = self.standing()
         for number, request in enumerate(self.requests):
             if request & ~standing == 0:
-                return number
-        return len(self.requests)
+                return (request, number)
+        return (0, len(self.requests))
 
     def decide(self):
-        self.kept_request = self.granted_request()
-        if self.kept_request < len(self.requests):
-            self.kept = self.requests[self.kept_request]
+        granted = self.granted()
+        self.kept = granted[0]
+        self.kept_request = granted[1]
+        self.settled = self.counted
+        self.settled_pieces = len(self.pieces)
         self.decision_day = self.day
         self.phase = DECIDED
 

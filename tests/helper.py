@@ -46,6 +46,46 @@ def alive():
     return [9]
 
 
+def fact(c, f):
+    return [10, c, f]
+
+
+def why(c):
+    return [11, c]
+
+
+def fewest(c):
+    return [12, c]
+
+
+def without(i):
+    return [13, i]
+
+
+def let_in(c):
+    return [14, c]
+
+
+def piece(i):
+    return [15, i]
+
+
+def requests():
+    return [16]
+
+
+def appeals():
+    return [17]
+
+
+def status():
+    return [18]
+
+
+def would():
+    return [19]
+
+
 def ask(*calls):
     """The answer of each call of one line, as a list each."""
     flat = [number for call in calls for number in call]
@@ -75,13 +115,19 @@ PHASE_2 = PHASE_1 + [tick(6), decide()]
 PHASE_3 = PHASE_2 + [appeal(1, 4), tick(61), close()]
 PHASES = ([], PHASE_1, PHASE_2, PHASE_3)
 
-# Calls that go on from any phase and whose answers show what the case holds: the claims that stand, the
-# numbers of pieces, requests and appeals, the day, what is kept, the outcome.
+# All that can be asked without changing the case, of each claim and of some pieces and facts.
+QUESTIONS = (
+    [status(), requests(), appeals(), would(), alive()]
+    + [call for c in range(6) for call in (let_in(c), why(c), fewest(c), fact(c, 0), fact(c, 4), fact(c, 7))]
+    + [call for i in (0, 1, 2, 3, 4, 23) for call in (piece(i), without(i))]
+)
+
+# Calls that go on from any phase and whose answers show what the case holds.
 PROBES = [
-    alive(), attack(2, 0, 0, 7), proof(3, 0, 1, 7, 1), alive(), request(4), withdraw(0), tick(1), decide(),
+    *QUESTIONS, attack(2, 0, 0, 7), proof(3, 0, 1, 7, 1), alive(), request(4), withdraw(0), tick(1), decide(),
     alive(), appeal(0, 1), appeal(1, 4), appeal(2, 2), appeal(3, 2), proof(0, 0, 1, 7, 1), alive(), withdraw(1),
-    appeal(0, 4), tick(30), close(), appeal(0, 1), tick(30), appeal(0, 1), tick(1), close(), alive(),
-    tick(9), decide(), appeal(0, 1), tick(40), close(), tick(30), close(), alive(), tick(1),
+    appeal(0, 4), tick(30), close(), appeal(0, 1), tick(30), *QUESTIONS, appeal(0, 1), tick(1), close(), alive(),
+    tick(9), decide(), appeal(0, 1), tick(40), close(), tick(30), close(), *QUESTIONS, tick(1),
 ]
 
 

@@ -4,7 +4,10 @@ import unittest
 
 from oppositions.board import answers
 from oppositions.shapes import split_calls
-from tests.helper import HIGHEST, LOWEST, PHASE_3, PHASES, alive, ask, attack, case, decide, proof, request, tick
+from tests.helper import (
+    HIGHEST, LOWEST, PHASE_1, PHASE_2, PHASE_3, PHASES, QUESTIONS, alive, appeal, ask, attack, case, close, decide,
+    fewest, piece, proof, request, requests, tick, withdraw, without,
+)
 
 
 class Untouched(list):
@@ -18,7 +21,13 @@ class Untouched(list):
 
 
 def whole_line():
-    return [number for call in PHASE_3 for number in call]
+    """Each of the twenty calls, the questions in each phase."""
+    line = QUESTIONS + PHASE_1
+    for rest in (PHASE_2[len(PHASE_1):], PHASE_3[len(PHASE_2):-1] + [withdraw(1)], PHASE_3[-1:]):
+        line = line + QUESTIONS + rest
+    line = line + QUESTIONS
+    assert {call[0] for call in line} == set(range(20)) and len(line) <= 400
+    return [number for call in line for number in call]
 
 
 class Reading(unittest.TestCase):
@@ -79,18 +88,37 @@ class Answers(unittest.TestCase):
 
     def test_answers_are_a_list_of_whole_numbers(self):
         told = answers(whole_line() + [0, 1, 1, 0, 1, 0, 5, 1, 0, 9])
-        self.assertIs(list, type(told))
+        self.assertEqual(list, type(told))
         self.assertEqual({int}, {type(number) for number in told})
 
     def test_before_the_first_call_there_is_no_case(self):
         calls = [attack(0, 0, 0), proof(0, 0, 1), request(1), tick(1), decide(), [6, 0, 1], [7, 0], [8], [9]]
-        self.assertEqual([[-6]] * 9, ask(*calls))
+        calls += [[10, 0, 0], [11, 0], [12, 0], [13, 0], [14, 0], [19]]
+        self.assertEqual([[-6]] * 15, ask(*calls))
+        self.assertEqual([[-5], [0], [0], [0] * 8], ask([15, 0], [16], [17], [18]))
+
+    def test_numbers_below_0_may_stand_behind_the_first(self):
+        told = answers([0, 1, 1, 0, 2, 3, 4, 0, -6, 3, -5, 10, 0, 0, 15, 0, 10, 0, 3])
+        self.assertEqual([1, 0, 1, 0, 2, 0, -6, 7, 3, 0, 1, 0, -6, 3, -5, 2, 0, -5], told)
+
+    def test_counts_stand_ahead_only_where_they_are_told(self):
+        line = [0, 2, 1, 0, 1, 0, 0, 2, 1, 2, 2, 1, 4, 1, 1, 2, 1, 3, 2, 4, 1]
+        self.assertEqual([1, 0, 1, 0, 1, 1, 1, 1, 1, 1], answers(line))
+        for asked, told in (
+            ([12, 0], [2, 1, 1]), ([12, 1], [1, 0]), ([14, 0], [3, 2, 1, 1]), ([16], [3, 2, 3, 2]), ([17], [1, 0]),
+            ([15, 0], [6, 0, 0, 0, 0, 1, 2]), ([15, 1], [7, 1, 0, 1, 1, 1, 2, 1]), ([11, 0], [2, 1, 0]),
+            ([11, 1], [1, 0]), ([10, 0, 2], [2, 1, 1]), ([13, 0], [1, 3]), ([19], [2, 2, 1]),
+            ([18], [8, 1, 1, 2, 0, 0, 0, 0, 0]), ([5, 19], [2, 2, 1, 1, 2]),
+            ([5, 6, 3, 1, 17], [2, 2, 1, 1, 0, 3, 1, 3, 1]),
+        ):
+            with self.subTest(asked=asked):
+                self.assertEqual(told, answers(line + asked)[10:])
 
 
 class HandedIn(unittest.TestCase):
     def test_the_list_is_the_same_afterwards(self):
-        for before in PHASES[1:]:
-            calls = [number for call in before for number in call]
+        for before in PHASES:
+            calls = [number for call in before + QUESTIONS for number in call]
             kept = list(calls)
             answers(calls)
             self.assertEqual(kept, calls)
@@ -132,6 +160,23 @@ class LongLines(unittest.TestCase):
         told = ask(*calls)
         self.assertEqual([[0]] + [[number] for number in range(24)], told[:25])
         self.assertEqual([[-1]] * 373 + [[-3], [63]], told[25:])
+
+    def test_400_calls_with_the_longest_answers(self):
+        facts = [number for f in range(8) for number in (f, 9)]
+        full = [case(6, 1, 0)] + [proof(0, *facts)] + [attack(0, 5, f) for f in range(8)] + [proof(3, *facts)] * 15
+        self.assertEqual([[8, *range(8)]] * 375, ask(*full, *[fewest(5)] * 375)[25:])
+        self.assertEqual([[31]] * 374 + [[3, 0, 1, *facts]], ask(*full, *[without(23)] * 374, piece(23))[25:])
+        late = [case(6, 9, 0), attack(0, 5, 0), tick(1)] + [proof(0, 0, 9), proof(3, 0, -9)] * 11 + [proof(0, 1, 1)]
+        self.assertEqual([[63]] * 374, ask(*late, *[without(23)] * 374)[26:])
+
+    def test_a_line_of_400_with_full_requests_and_appeals(self):
+        line = [case(6, 1, 0)] + [request(63)] * 5 + [tick(1), decide()] + [appeal(turn % 3, 63) for turn in range(8)]
+        line += [requests(), [17]] * 191 + [tick(61), close()]
+        self.assertEqual(400, len(line))
+        told = ask(*line)
+        self.assertEqual([[6] + [63] * 6, [8] + [0, 63, 1, 63, 2, 63] * 2 + [0, 63, 1, 63]], told[16:18])
+        self.assertEqual(told[16:18] * 191, told[16:-2])
+        self.assertEqual([63], told[-1])
 
     def test_400_cases(self):
         self.assertEqual([[0]] * 400, ask(*[case(1 + turn % 6, 1 + turn % 20, turn % 366) for turn in range(400)]))

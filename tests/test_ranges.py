@@ -3,8 +3,8 @@
 import unittest
 
 from tests.helper import (
-    HIGHEST, LOWEST, PHASES, alive, appeal, ask, attack, case, days, decide, last, proof, refused, request, taken,
-    tick, withdraw,
+    HIGHEST, LOWEST, PHASES, alive, appeal, ask, attack, case, days, decide, fact, fewest, last, let_in, piece, proof,
+    refused, request, taken, tick, why, withdraw, without,
 )
 
 # For each whole number of a call: the call with it, its lowest and its highest value.
@@ -30,17 +30,13 @@ NUMBERS = [
     (lambda x: appeal(0, x), 1, 63),
     (lambda x: appeal(3, x), 1, 63),
     (lambda x: withdraw(x), 0, 2),
-]
-
-# The same of the calls that are read but not built yet.
-NOT_BUILT = [
-    (lambda x: [10, x, 0], 0, 5),
-    (lambda x: [10, 0, x], 0, 7),
-    (lambda x: [11, x], 0, 5),
-    (lambda x: [12, x], 0, 5),
-    (lambda x: [13, x], 0, 23),
-    (lambda x: [14, x], 0, 5),
-    (lambda x: [15, x], 0, 23),
+    (lambda x: fact(x, 0), 0, 5),
+    (lambda x: fact(0, x), 0, 7),
+    (lambda x: why(x), 0, 5),
+    (lambda x: fewest(x), 0, 5),
+    (lambda x: without(x), 0, 23),
+    (lambda x: let_in(x), 0, 5),
+    (lambda x: piece(x), 0, 23),
 ]
 
 ROWS = [
@@ -82,7 +78,7 @@ ALL_KEPT = [case(6, 1, 0), tick(1), decide()]
 
 class Beyond(unittest.TestCase):
     def test_a_number_beyond_its_range_is_refused_in_each_phase(self):
-        for call, low, high in NUMBERS + NOT_BUILT:
+        for call, low, high in NUMBERS:
             for value in (low - 1, high + 1, LOWEST, HIGHEST):
                 for before in PHASES:
                     refused(self, -1, before, call(value))
@@ -95,15 +91,6 @@ class Beyond(unittest.TestCase):
         for call in ROWS:
             for before in PHASES:
                 refused(self, -1, before, call)
-
-
-class NotBuilt(unittest.TestCase):
-    def test_a_call_that_is_not_built_is_not_answered(self):
-        calls = [call(value) for call, low, high in NOT_BUILT for value in (low, high)] + [[16], [17], [18], [19]]
-        for call in calls:
-            for before in PHASES:
-                with self.subTest(before=before, call=call), self.assertRaises(NotImplementedError):
-                    ask(*before, call)
 
 
 class Within(unittest.TestCase):
@@ -174,6 +161,27 @@ class Within(unittest.TestCase):
         for o in range(3):
             taken(self, [0], ALL_KEPT, withdraw(o))
             taken(self, [1], ALL_KEPT + [appeal(o, 1)], withdraw(o))
+
+    def test_the_claim_that_is_asked_of(self):
+        down = [case(6, 2, 0)] + [attack(0, c, c) for c in range(6)] + [proof(0, 0, 1, 5, 2)]
+        for c in range(5):
+            taken(self, [0], down, why(c))
+            taken(self, [0], down, fewest(c))
+        taken(self, [1, 5], down, why(5))
+        taken(self, [1, 5], down, fewest(5))
+        for c in range(6):
+            taken(self, [7, 1, 1, 1, 1, 1, 1, 1], down, let_in(c))
+
+    def test_the_fact_that_is_asked_of(self):
+        every = [number for f in range(8) for number in (f, f - 9)]
+        for f in range(8):
+            taken(self, [0, f - 9], [case(1, 1, 0), proof(0, *every)], fact(0, f))
+
+    def test_the_piece_that_is_asked_of(self):
+        full = [case(1, 20, 0)] + [proof(i % 4, i % 8, i % 9 + 1) for i in range(24)]
+        for i in range(24):
+            taken(self, [i % 4, 0, 1, i % 8, i % 9 + 1], full, piece(i))
+            taken(self, [1], full, without(i))
 
 
 if __name__ == "__main__":

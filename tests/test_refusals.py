@@ -3,8 +3,8 @@
 import unittest
 
 from tests.helper import (
-    PHASE_1, PHASE_2, PHASE_3, alive, appeal, ask, attack, case, close, days, decide, last, proof, refused, request,
-    taken, tick, withdraw,
+    PHASE_1, PHASE_2, PHASE_3, PHASES, QUESTIONS, alive, appeal, appeals, ask, attack, case, close, days, decide, fact,
+    fewest, last, let_in, piece, proof, refused, request, requests, status, taken, tick, why, withdraw, without, would,
 )
 
 PIECES_FULL = [case(3, 1, 5)] + [attack(0, 1, 2), proof(0, 2, 1)] + [proof(1, 5, -1)] * 22
@@ -216,6 +216,118 @@ class Alive(unittest.TestCase):
     def test_asking_changes_nothing(self):
         line = [call for call in PHASE_3 for call in (call, alive())]
         self.assertEqual(ask(*PHASE_3), ask(*line)[::2])
+
+
+OF_A_CLAIM = [lambda c: fact(c, 4), why, fewest, let_in]
+
+
+class OfAClaim(unittest.TestCase):
+    def test_no_case(self):
+        for call in OF_A_CLAIM:
+            for c in range(6):
+                refused(self, -6, [], call(c))
+
+    def test_a_claim_that_the_case_does_not_have(self):
+        for call in OF_A_CLAIM:
+            for before in (PHASE_1, PHASE_2, PHASE_3):
+                for c in (3, 4, 5):
+                    refused(self, -5, before, call(c))
+            for n in range(1, 6):
+                refused(self, -5, [case(n, 1, 0)], call(n))
+                self.assertGreaterEqual(last(case(n, 1, 0), call(n - 1))[0], 0)
+
+    def test_answers_in_each_other_phase(self):
+        for before in (PHASE_1, PHASE_2, PHASE_3):
+            taken(self, [0, 0], before, fact(0, 0))
+            for c in range(3):
+                taken(self, [1, 2], before, fact(c, 4))
+                taken(self, [1, 0] if c == 1 else [0], before, why(c))
+                taken(self, [1, 4] if c == 1 else [0], before, fewest(c))
+                taken(self, [2, 1, 1], before, let_in(c))
+
+    def test_order(self):
+        for before in PHASES:
+            for call in OF_A_CLAIM:
+                refused(self, -1, before, call(6))
+                refused(self, -1, before, call(-1))
+            # Out of range and not one of the case's: the range is asked first.
+            refused(self, -1, before, fact(5, 8))
+            refused(self, -1, before, fact(5, -1))
+        refused(self, -6, [], fact(5, 7))
+
+
+class Without(unittest.TestCase):
+    def test_no_case(self):
+        for i in (0, 1, 23):
+            refused(self, -6, [], without(i))
+
+    def test_no_such_piece(self):
+        for before in (PHASE_1, PHASE_2, PHASE_3):
+            for i in (0, 1):
+                taken(self, [7], before, without(i))
+            for i in (2, 3, 22, 23):
+                refused(self, -5, before, without(i))
+        refused(self, -5, [case(1, 1, 0)], without(0))
+        taken(self, [7], PIECES_FULL, without(0))
+        taken(self, [5], PIECES_FULL, without(23))
+        refused(self, -5, PIECES_FULL[:-1], without(23))
+
+    def test_order(self):
+        for before in PHASES:
+            refused(self, -1, before, without(24))
+            refused(self, -1, before, without(-1))
+
+
+class Piece(unittest.TestCase):
+    def test_no_such_piece_in_each_phase(self):
+        for i in (0, 1, 2, 23):
+            refused(self, -5, [], piece(i))
+        for before in (PHASE_1, PHASE_2, PHASE_3):
+            taken(self, [0, 0, 0, 1, 4], before, piece(0))
+            taken(self, [0, 0, 1, 4, 2], before, piece(1))
+            for i in (2, 3, 23):
+                refused(self, -5, before, piece(i))
+        taken(self, [1, 0, 1, 5, -1], PIECES_FULL, piece(23))
+        refused(self, -5, PIECES_FULL[:-1], piece(23))
+
+    def test_order(self):
+        for before in PHASES:
+            refused(self, -1, before, piece(24))
+            refused(self, -1, before, piece(-1))
+
+
+class WithoutRefusals(unittest.TestCase):
+    def test_requests_appeals_and_status_answer_in_each_phase(self):
+        told = (
+            ([0], [0], [0, 0, 0, 0, 0, 0, 0, 0]),
+            ([2, 7, 5], [0], [1, 0, 3, 5, 0, 0, 0, 0]),
+            ([2, 7, 5], [0], [2, 6, 3, 5, 5, 1, 6, 0]),
+            ([2, 7, 5], [1, 1, 4], [3, 67, 3, 5, 5, 1, 6, 5]),
+        )
+        for before, answers in zip(PHASES, told):
+            taken(self, answers[0], before, requests())
+            taken(self, answers[1], before, appeals())
+            taken(self, answers[2], before, status())
+
+
+class Would(unittest.TestCase):
+    def test_only_in_the_phases_1_and_2(self):
+        refused(self, -6, [], would())
+        taken(self, [5, 1], PHASE_1, would())
+        taken(self, [5, 1], PHASE_1 + [tick(300)], would())
+        taken(self, [5], PHASE_2, would())
+        taken(self, [5], PHASE_2 + [tick(300)], would())
+        refused(self, -6, PHASE_3, would())
+
+
+class Over(unittest.TestCase):
+    def test_the_calls_9_to_14_answer_as_in_phase_2(self):
+        asked = [call for call in QUESTIONS if call[0] in (9, 10, 11, 12, 13, 14)]
+        since = PHASE_2 + [appeal(0, 1), attack(2, 0, 4), proof(3, 4, -1), proof(1, 4, 1, 7, 2), tick(61)]
+        for before in (PHASE_2 + [tick(61)], since):
+            told = ask(*before, *asked)
+            over = ask(*before, close(), *asked)
+            self.assertEqual(told[len(before):], over[len(before) + 1:])
 
 
 if __name__ == "__main__":

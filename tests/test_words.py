@@ -1,25 +1,28 @@
 """Many lines of calls, answered by the program and, slowly, straight by the document's words."""
 
+import itertools
 import random
 import unittest
 
-from tests.helper import alive, appeal, ask, attack, case, close, decide, proof, request, tick, withdraw
+from tests import helper
 
 LINES = 600
-CALLS = 120
+CALLS = 160
 
 
 class Words:
     """The document's words one by one; everything that can be told anew is told anew for each call."""
 
     def __init__(self):
-        self.phase = 0
+        self.phase = self.n = self.bar = self.limit = self.day = self.number = self.decided = 0
+        self.pieces, self.asked, self.made, self.kept, self.outcome = [], [], [], set(), set()
 
     def case(self, n, bar, limit):
         if not (1 <= n <= 6 and 1 <= bar <= 20 and 0 <= limit <= 365):
             return [-1]
-        self.phase, self.n, self.bar, self.limit, self.day = 1, n, bar, limit, 0
-        self.pieces, self.requests, self.appeals = [], [set(range(n))], []
+        self.__init__()
+        self.phase, self.n, self.bar, self.limit = 1, n, bar, limit
+        self.asked = [set(range(n))]
         return [0]
 
     def bring(self, piece):
@@ -37,7 +40,7 @@ class Words:
             return [-1]
         if self.phase and c >= self.n:
             return [-5]
-        return self.bring({"claim": c, "facts": facts})
+        return self.bring({"who": o, "claim": c, "facts": facts})
 
     def proof(self, p, *weights):
         facts, weigh = list(weights[::2]), weights[1::2]
@@ -45,16 +48,22 @@ class Words:
         in_range = all(weight in range(-9, 10) and weight for weight in weigh)
         if not (0 <= p <= 3 and facts and len(facts) == len(weigh) and going_up and in_range):
             return [-1]
-        return self.bring({"tells": dict(zip(facts, weigh))})
+        return self.bring({"who": p, "tells": dict(zip(facts, weigh)), "row": weights})
 
-    def proven(self, pieces, fact):
-        return sum(piece.get("tells", {}).get(fact, 0) for piece in pieces) >= self.bar
+    def how_much(self, pieces, f):
+        return sum(piece.get("tells", {}).get(f, 0) for piece in pieces)
+
+    def proven(self, pieces, f):
+        return self.how_much(pieces, f) >= self.bar
+
+    def proven_attacks(self, pieces, claim):
+        attacks = [piece for piece in pieces if piece.get("claim") == claim]
+        return [piece for piece in attacks if all(self.proven(pieces, f) for f in piece["facts"])]
 
     def stands(self, pieces, claim):
-        attacks = [piece for piece in pieces if piece.get("claim") == claim]
-        return not any(all(self.proven(pieces, fact) for fact in piece["facts"]) for piece in attacks)
+        return not self.proven_attacks(pieces, claim)
 
-    def let_in(self, counts, pieces, claim):
+    def letting_in(self, counts, pieces, claim):
         for piece in pieces:
             if self.stands(counts + [piece], claim) != self.stands(counts, claim):
                 counts = counts + [piece]
@@ -62,12 +71,14 @@ class Words:
 
     def before_decision(self, pieces, claim):
         late = [piece for piece in pieces if piece["late"]]
-        return self.let_in([piece for piece in pieces if not piece["late"]], late, claim)
+        return self.letting_in([piece for piece in pieces if not piece["late"]], late, claim)
 
-    def counts(self, claim):
+    def counts(self, claim, left_out=None):
+        there = [piece for piece in self.pieces if piece["number"] != left_out]
         if self.phase == 1:
-            return self.before_decision(self.pieces, claim)
-        return self.let_in(self.fixed[claim], self.pieces[self.brought_then:], claim)
+            return self.before_decision(there, claim)
+        then = [piece for piece in there if piece["number"] in self.fixed[claim]]
+        return self.letting_in(then, [piece for piece in there if piece["number"] >= self.brought_then], claim)
 
     def standing(self):
         return {claim for claim in range(self.n) if self.stands(self.counts(claim), claim)}
@@ -79,10 +90,10 @@ class Words:
             return [-6]
         if not members(m) <= set(range(self.n)):
             return [-5]
-        if len(self.requests) == 6:
+        if len(self.asked) == 6:
             return [-3]
-        self.requests.append(members(m))
-        return [len(self.requests) - 1]
+        self.asked.append(members(m))
+        return [len(self.asked) - 1]
 
     def tick(self, n):
         if not 1 <= n <= 365:
@@ -97,12 +108,17 @@ class Words:
     def decide(self):
         if self.phase != 1 or self.day <= self.limit:
             return [-6]
-        granted = [number for number, claims in enumerate(self.requests) if claims <= self.standing()]
-        number = granted[0] if granted else len(self.requests)
-        self.kept = self.requests[number] if granted else set()
-        self.fixed = [self.before_decision(self.pieces, claim) for claim in range(self.n)]
+        self.kept, self.number = self.granted()
+        self.fixed = [
+            [piece["number"] for piece in self.before_decision(self.pieces, claim)] for claim in range(self.n)]
         self.brought_then, self.decided, self.phase = len(self.pieces), self.day, 2
-        return [as_number(self.kept), number]
+        return [as_number(self.kept), self.number]
+
+    def granted(self):
+        for number, claims in enumerate(self.asked):
+            if claims <= self.standing():
+                return claims, number
+        return set(), len(self.asked)
 
     def appeal(self, p, m):
         if not (0 <= p <= 3 and 1 <= m <= 63):
@@ -112,31 +128,103 @@ class Words:
         allowed = set(range(self.n)) - self.kept if p == 3 else self.kept
         if not members(m) <= allowed:
             return [-5]
-        if len(self.appeals) == 8:
+        if len(self.made) == 8:
             return [-3]
-        self.appeals.append((p, members(m)))
-        return [len(self.appeals) - 1]
+        self.made.append((p, members(m)))
+        return [len(self.made) - 1]
 
     def withdraw(self, o):
         if not 0 <= o <= 2:
             return [-1]
         if self.phase in (0, 3):
             return [-6]
-        gone = [made for made in self.appeals if made[0] == o]
-        self.appeals = [made for made in self.appeals if made[0] != o]
+        gone = [made for made in self.made if made[0] == o]
+        self.made = [made for made in self.made if made[0] != o]
         return [len(gone)]
 
     def close(self):
         if self.phase != 2 or self.day - self.decided <= 60:
             return [-6]
-        standing = self.standing()
-        named = set().union(*[claims for p, claims in self.appeals if p != 3])
-        owned = set().union(*[claims for p, claims in self.appeals if p == 3])
+        self.outcome = self.outcome_now()
         self.phase = 3
-        return [as_number((self.kept - (named - standing)) | (owned & standing))]
+        return [as_number(self.outcome)]
+
+    def outcome_now(self):
+        standing = self.standing()
+        named = set().union(*[claims for p, claims in self.made if p != 3])
+        owned = set().union(*[claims for p, claims in self.made if p == 3])
+        return (self.kept - (named - standing)) | (owned & standing)
 
     def alive(self):
         return [-6] if self.phase == 0 else [as_number(self.standing())]
+
+    def no_claim(self, c):
+        if not 0 <= c <= 5:
+            return [-1]
+        if self.phase == 0:
+            return [-6]
+        return [-5] if c >= self.n else None
+
+    def fact(self, c, f):
+        if not (0 <= c <= 5 and 0 <= f <= 7):
+            return [-1]
+        return self.no_claim(c) or [
+            1 if self.proven(self.counts(c), f) else 0, self.how_much(self.counts(c), f)]
+
+    def why(self, c):
+        refusal = self.no_claim(c)
+        attacks = [] if refusal else [piece["number"] for piece in self.proven_attacks(self.counts(c), c)]
+        return refusal or ([1, min(attacks)] if attacks else [0])
+
+    def fewest(self, c):
+        refusal = self.no_claim(c)
+        attacks = [] if refusal else [set(piece["facts"]) for piece in self.proven_attacks(self.counts(c), c)]
+        every = [facts for size in range(9) for facts in itertools.combinations(range(8), size)]
+        fit = [facts for facts in every if all(needed & set(facts) for needed in attacks)]
+        best = min(fit, key=lambda facts: (len(facts), facts))
+        return refusal or [len(best), *best]
+
+    def no_piece(self, i):
+        if not 0 <= i <= 23:
+            return [-1]
+        return [-5] if i >= len(self.pieces) else None
+
+    def without(self, i):
+        if self.phase == 0 and 0 <= i <= 23:
+            return [-6]
+        return self.no_piece(i) or [
+            as_number({claim for claim in range(self.n) if self.stands(self.counts(claim, i), claim)})]
+
+    def let_in(self, c):
+        refusal = self.no_claim(c)
+        if refusal:
+            return refusal
+        counts = [piece["number"] for piece in self.counts(c)]
+        return [len(self.pieces), *[1 if number in counts else 0 for number in range(len(self.pieces))]]
+
+    def piece(self, i):
+        refusal = self.no_piece(i)
+        if refusal:
+            return refusal
+        piece = self.pieces[i]
+        ahead = [piece["who"], 1 if piece["late"] else 0]
+        return ahead + ([1, *piece["row"]] if "row" in piece else [0, piece["claim"], *piece["facts"]])
+
+    def requests(self):
+        return [len(self.asked), *[as_number(claims) for claims in self.asked]]
+
+    def appeals(self):
+        return [len(self.made), *[number for p, claims in self.made for number in (p, as_number(claims))]]
+
+    def status(self):
+        return [self.phase, self.day, self.n, self.limit, as_number(self.kept), self.number, self.decided,
+                as_number(self.outcome)]
+
+    def would(self):
+        if self.phase == 1:
+            claims, number = self.granted()
+            return [as_number(claims), number]
+        return [as_number(self.outcome_now())] if self.phase == 2 else [-6]
 
 
 def members(m):
@@ -168,37 +256,46 @@ def some_claims(chance, n):
                           chance.randint(0, 64)))
 
 
-def some_call(chance, n):
+def some_question(chance, n):
+    name = chance.choice((
+        "alive", "fact", "why", "fewest", "without", "without", "without", "let_in", "let_in", "piece", "requests",
+        "appeals", "status", "would", "would",
+    ))
+    if name == "fact":
+        return (name, chance.randrange(-1, n + 1), chance.choice((0, 1, 2, 7, 8)))
+    if name in ("why", "fewest", "let_in"):
+        return (name, chance.choice((*range(n), *range(n), -1, n)))
+    if name in ("without", "piece"):
+        return (name, chance.choice((*range(24), -1, 24, *range(8), *range(8))))
+    return (name,)
+
+
+def some_change(chance, n):
     draw = chance.random()
-    if draw < 0.01:
+    if draw < 0.015:
         return ("case", chance.randint(0, 7), chance.randint(0, 21), chance.choice((-1, 0, 3, 365, 366)))
-    if draw < 0.2:
+    if draw < 0.25:
         return ("attack", chance.choice((0, 1, 2, 2, 3)), chance.randrange(n + 1), *some_facts(chance, 3))
-    if draw < 0.5:
+    if draw < 0.6:
         return some_proof(chance)
-    if draw < 0.56:
+    if draw < 0.67:
         return ("request", some_claims(chance, n))
-    if draw < 0.68:
+    if draw < 0.79:
         return ("tick", chance.choice((1, 1, 2, 5, 20, 40)))
-    if draw < 0.71:
+    if draw < 0.825:
         return ("decide",)
-    if draw < 0.81:
+    if draw < 0.945:
         return ("appeal", chance.randint(0, 3), some_claims(chance, n))
-    if draw < 0.83:
-        return ("withdraw", chance.randint(0, 2))
-    return ("close",) if draw < 0.87 else ("alive",)
+    return ("withdraw", chance.randint(0, 2)) if draw < 0.97 else ("close",)
 
 
 def some_line(chance):
     n = chance.randint(1, 6)
     line = [("case", n, chance.choice((1, 2, 3, 4)), chance.choice((0, 2, 10, 30)))]
-    return line + [some_call(chance, n) for turn in range(CALLS)]
-
-
-BY_NAME = {
-    "case": case, "attack": attack, "proof": proof, "request": request, "tick": tick, "decide": decide,
-    "appeal": appeal, "withdraw": withdraw, "close": close, "alive": alive,
-}
+    # Now and then something is asked ahead of the first case.
+    ahead = [some_question(chance, n) for turn in range(chance.choice((0, 0, 0, 8)))]
+    pick = (some_change, some_change, some_question)
+    return ahead + line + [chance.choice(pick)(chance, n) for turn in range(CALLS)]
 
 
 class AgainstTheWords(unittest.TestCase):
@@ -207,18 +304,30 @@ class AgainstTheWords(unittest.TestCase):
         for seed in range(LINES):
             line = some_line(random.Random(seed))
             words = Words()
-            told = [getattr(words, call[0])(*call[1:]) for call in line]
+            told = [(words.phase, getattr(words, call[0])(*call[1:])) for call in line]
             with self.subTest(seed=seed):
-                self.assertEqual(told, ask(*[BY_NAME[call[0]](*call[1:]) for call in line]))
-            seen.update((call[0], min(answer[0], 0)) for call, answer in zip(line, told))
-        # The lines reach each refusal that such calls can give (day 10000 and no case are tested elsewhere).
+                plain = [getattr(helper, call[0])(*call[1:]) for call in line]
+                self.assertEqual([answer for phase, answer in told], helper.ask(*plain))
+            for call, (phase, answer) in zip(line, told):
+                seen.add((call[0], min(answer[0], 0)))
+                seen.add((call[0], min(answer[0], 0), phase))
+        # The lines reach each refusal that such calls can give (day 10000 is tested elsewhere).
         for call, refusals in (
             ("case", (-1,)), ("attack", (-1, -5, -6, -3)), ("proof", (-1, -6, -3)), ("request", (-1, -6, -5, -3)),
             ("tick", ()), ("decide", (-6,)), ("appeal", (-1, -6, -5, -3)), ("withdraw", (-6,)), ("close", (-6,)),
-            ("alive", ()),
+            ("alive", (-6,)), ("fact", (-1, -6, -5)), ("why", (-1, -6, -5)), ("fewest", (-1, -6, -5)),
+            ("without", (-1, -6, -5)), ("let_in", (-1, -6, -5)), ("piece", (-1, -5)), ("requests", ()),
+            ("appeals", ()), ("status", ()), ("would", (-6,)),
         ):
             for answer in (0, *refusals):
                 self.assertIn((call, answer), seen)
+        # And each question in each phase in which it answers.
+        for call in ("alive", "fact", "why", "fewest", "without", "let_in", "piece"):
+            for phase in (1, 2, 3):
+                self.assertIn((call, 0, phase), seen)
+        for call in ("requests", "appeals", "status"):
+            for phase in range(4):
+                self.assertIn((call, 0, phase), seen)
 
 
 if __name__ == "__main__":
