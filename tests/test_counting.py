@@ -2,9 +2,7 @@
 
 import unittest
 
-from tests.helper import (
-    alive, appeal, ask, attack, case, close, decide, last, proof, request, tick,
-)
+from tests.helper import alive, appeal, ask, attack, case, close, decide, last, proof, tick
 
 
 class Standing(unittest.TestCase):
